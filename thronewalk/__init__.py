@@ -1,0 +1,1 @@
+"""Thronewalk: who sits on which throne."""
