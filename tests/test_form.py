@@ -18,6 +18,17 @@ INTERFACE = {
         "steps_of": "house book row day who", "is_line": "house book row day thing",
         "lines_many": "house book row day who",
     },
+    "reach": {
+        "right_reach": "house book row day thing", "reach_of": "house book row day",
+        "stands": "house book row day who",
+    },
+    "walks": {"walk": "house book row day", "least_line": "house book row day who"},
+    "places": {"right_place": "house book row day who thing"},
+    "placing": {
+        "place_of": "house book row day who", "parting": "house book row day one other",
+        "comes_ahead": "house book row day one other",
+    },
+    "degrees": {"degrees": "house book row day who"},
 }
 
 BARRED = (
