@@ -49,6 +49,10 @@ def are_folk_of(house, thing):
     return isinstance(thing, tuple) and all(is_folk_of(house, part) for part in thing)
 
 
+def parents_of(house, who):
+    return [parent for parent in house[who][1:3] if parent != -1]
+
+
 def day_of(house, who):
     return house[who][0]
 

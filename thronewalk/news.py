@@ -41,24 +41,50 @@ def may_await(house, day, who, other):
     return is_folk_of(house, other) and is_man(house, other) and day_of(house, other) < day
 
 
-def days_of(book, day, who, word):
-    return [news[1] for news in book if news[0] == word and news[1] <= day and news[2] == who]
+def book_up_to(book, day):
+    return tuple(news for news in book if news[1] <= day)
 
 
-def days_behind_back(book, day, who, word):
-    back = max(days_of(book, day, who, "returns"), default=-1)
-    return [told for told in days_of(book, day, who, word) if told > back]
+def backs_by(book, day):
+    """The back of each folk who has one."""
+    backs = {}
+    for word, told, who, other in book:
+        if word == "returns" and told <= day:
+            backs[who] = max(told, backs.get(who, -1))
+    return backs
+
+
+def news_behind_back(book, day, words):
+    """The news with one of these words, up to the day, that no return has undone."""
+    backs = backs_by(book, day)
+    return [news for news in book if news[0] in words and backs.get(news[2], -1) < news[1] <= day]
+
+
+def dead_by(book, day):
+    """All who are dead, as the keys of a dict."""
+    return {news[2]: True for news in book if news[0] == "dies" and news[1] <= day}
+
+
+def out_by(book, day):
+    """All who are out, as the keys of a dict."""
+    return {news[2]: True for news in news_behind_back(book, day, ("leaves", "cuts"))}
+
+
+def cuts_by(book, day):
+    """Of each folk who is cut, the day from which on."""
+    cuts = {}
+    for word, told, who, other in news_behind_back(book, day, ("cuts",)):
+        cuts[who] = min(told, cuts.get(who, told))
+    return cuts
 
 
 def is_dead(book, day, who):
-    return len(days_of(book, day, who, "dies")) > 0
+    return who in dead_by(book, day)
 
 
 def is_out(book, day, who):
-    left = days_behind_back(book, day, who, "leaves")
-    cuts = days_behind_back(book, day, who, "cuts")
-    return len(left) + len(cuts) > 0
+    return who in out_by(book, day)
 
 
 def cut_from(book, day, who):
-    return min(days_behind_back(book, day, who, "cuts"), default=-1)
+    return cuts_by(book, day).get(who, -1)

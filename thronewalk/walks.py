@@ -2,11 +2,12 @@
 
 from thronewalk.errors import NoLine
 from thronewalk.rules import founder_is_born
-from thronewalk.steps import steps_of
+from thronewalk.steps import all_steps
 
 
 def least_lines(house, book, row, day):
     """The least line of each one who is reached; its keys stand as in the walk."""
+    steps = all_steps(house, book, row, day)
     lines = {}
     waiting = [(row[0],)] if founder_is_born(house, row, day) else []
     while waiting:
@@ -15,8 +16,7 @@ def least_lines(house, book, row, day):
         if who not in lines:
             lines[who] = line
             # The last one in is the next one out, so the first in rank goes in last.
-            steps = steps_of(house, book, row, day, who)
-            waiting.extend([line + (step,) for step in reversed(steps)])
+            waiting.extend([line + (step,) for step in reversed(steps[who])])
     return lines
 
 
