@@ -74,6 +74,53 @@ def some_cases(seed, many, folk, last_day=12):
     return cases
 
 
+def some_awaits(dice, house, last_day):
+    """An "awaits" of the house, or None where it has no mother for one."""
+    women = [who for who in range(len(house)) if house[who][3] == 0 and house[who][0] < LAST]
+    if not women:
+        return None
+    who = dice.one_of(women)
+    day = min(LAST, house[who][0] + 1 + dice.below(last_day))
+    men = [other for other in range(len(house)) if house[other][3] == 1 and house[other][0] < day]
+    return ("awaits", day, who, dice.one_of([-1] + men))
+
+
+def some_whole_book(dice, house, many, last_day):
+    """A book with each of the five words."""
+    told = set(some_book(dice, house, many - many // 3, last_day))
+    for _ in range(many // 3):
+        told.add(some_awaits(dice, house, last_day))
+    return tuple(sorted(news for news in told if news is not None))
+
+
+def some_rule(dice, house):
+    first = dice.one_of((0, 0, 1, 2))
+    fit = [who for who in range(len(house)) if house[who][0] <= house[first][0]]
+    founders = [first] + [dice.one_of(fit) for _ in range(dice.below(3))]
+    return tuple((founder, dice.one_of(MEN), dice.below(2), dice.one_of(WAYS)) for founder in founders)
+
+
+def some_thrones(seed, many, folk, last_day=12, news=12):
+    """Tuples (house, book, rule, day), the day from the beginning of the throne on."""
+    dice = Dice(seed)
+    cases = []
+    for _ in range(many):
+        house = some_house(dice, folk - dice.below(3), last_day)
+        rule = some_rule(dice, house)
+        begins = house[rule[0][0]][0]
+        book = some_whole_book(dice, house, dice.below(news + 1), last_day)
+        # A founder who lives sits on and on.
+        if dice.below(3) > 0:
+            book = tuple(sorted({*book, ("dies", begins + dice.below(last_day), rule[0][0], -1)}))
+        cases.append((house, book, rule, begins + dice.below(last_day + 2)))
+    return cases
+
+
+def all_rules(founder):
+    """A rule of one row for each kind of row."""
+    return tuple(((founder, men, wed, way),) for men in MEN for wed in (0, 1) for way in WAYS)
+
+
 def ladder(many):
     """Each folk is a child of the two ahead: the lines to them are very many."""
     return tuple(rung(at) for at in range(many))

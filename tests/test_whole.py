@@ -1,14 +1,20 @@
-"""Point [3], over the whole: (a), (b) of places, and (c); and point [2] of what is handed in."""
+"""Point [3], over the whole: (a), (b) of places, (c), (d), (e) of orders; and point [2] of what is handed in."""
 
 import unittest
 
 from tests import slow
-from tests.makers import FAMILY, all_rows, ladder, some_cases
+from tests.makers import FAMILY, Dice, all_rows, ladder, some_cases, some_parent, some_thrones
 from thronewalk.degrees import degrees
+from thronewalk.firstmaking import first_paper
+from thronewalk.firsts import right_first
+from thronewalk.folk import born_by
+from thronewalk.news import book_up_to
+from thronewalk.orders import first_of, order_of
 from thronewalk.places import right_place
 from thronewalk.placing import comes_ahead, parting, place_of
 from thronewalk.reach import reach_of, right_reach, stands
 from thronewalk.steps import is_line, lines_many, steps_of
+from thronewalk.waits import child_house, open_awaits
 from thronewalk.walks import least_line, walk
 
 
@@ -63,6 +69,86 @@ class Reached(unittest.TestCase):
                 self.assertEqual(now, set(walk(house, book, row, day)))
                 self.assertLessEqual(before, now)
                 before = now
+
+
+class OneMore(unittest.TestCase):
+    """(d)"""
+
+    def orders(self, house, book, rule, day, folk):
+        return [order_of(house, book, rule, day, last) for last in range(folk)]
+
+    def test_one_born_more(self):
+        came = 0
+        dice = Dice(64)
+        for house, book, rule, day in some_thrones(65, 250, 8):
+            born = max(house[-1][0], day - dice.below(3))
+            parents = (some_parent(dice, house, born, 1), some_parent(dice, house, born, 0))
+            more = house + ((born, *parents, dice.below(2), dice.below(2)),)
+            for asked in (born - 1, born, born + 2):
+                folk = born_by(house, asked)
+                before = self.orders(house, book, rule, asked, folk)
+                after = self.orders(more, book, rule, asked, folk)
+                self.assertEqual([tuple(who for who in order if who != len(house)) for order in after], before)
+                came += after != before
+        self.assertGreater(came, 50)
+
+    def test_one_more_who_dies_or_leaves(self):
+        went = 0
+        dice = Dice(66)
+        for house, book, rule, day in some_thrones(67, 250, 8):
+            who = dice.below(len(house))
+            told = house[who][0] + dice.below(6)
+            word = dice.one_of(("dies", "leaves"))
+            if word == "leaves" and any(news[0] == "returns" and news[2] == who and news[1] >= told for news in book):
+                continue
+            more = tuple(sorted({*book, (word, told, who, -1)}))
+            for asked in (max(told - 1, 0), told, told + 3):
+                folk = born_by(house, asked)
+                before = self.orders(house, book, rule, asked, folk)
+                after = self.orders(house, more, rule, asked, folk)
+                gone = who if asked >= told else -1
+                self.assertEqual(after, [tuple(one for one in order if one != gone) for order in before])
+                went += after != before
+        self.assertGreater(went, 30)
+
+    def test_behind_a_return(self):
+        back = 0
+        dice = Dice(68)
+        for house, book, rule, day in some_thrones(69, 400, 8):
+            who = dice.one_of([news[2] for news in book if news[0] in ("leaves", "cuts")] or [0])
+            told = house[who][0] + dice.below(12)
+            more = tuple(sorted({*book, ("returns", told, who, -1)}))
+            undone = tuple(
+                news for news in book
+                if not (news[0] in ("leaves", "cuts") and news[2] == who and news[1] <= told))
+            for asked in (told, told + 1, told + 9):
+                folk = born_by(house, asked)
+                after = self.orders(house, more, rule, asked, folk)
+                self.assertEqual(after, self.orders(house, undone, rule, asked, folk))
+                back += after != self.orders(house, book, rule, asked, folk)
+            if told > house[who][0]:
+                folk = born_by(house, told - 1)
+                before = self.orders(house, book, rule, told - 1, folk)
+                self.assertEqual(self.orders(house, more, rule, told - 1, folk), before)
+        self.assertGreater(back, 30)
+
+
+class BehindTheDay(unittest.TestCase):
+    """(e), of orders, their papers, and of children that are awaited."""
+
+    def test_nothing_hangs_on_it(self):
+        for house, book, rule, day in some_thrones(70, 200, 9):
+            born = house[:born_by(house, day)]
+            so_far = book_up_to(book, day)
+            for last in range(len(born)):
+                self.assertEqual(order_of(house, book, rule, day, last), order_of(born, so_far, rule, day, last))
+                paper = first_paper(house, book, rule, day, last)
+                self.assertEqual(paper, first_paper(born, so_far, rule, day, last))
+                first = first_of(born, so_far, rule, day, last)
+                self.assertTrue(right_first(born, so_far, rule, day, last, first, paper))
+            houses = [child_house(house, book, day, place) for place in open_awaits(house, book, day)]
+            again = [child_house(born, so_far, day, place) for place in open_awaits(born, so_far, day)]
+            self.assertEqual(houses, again)
 
 
 class AskedTwice(unittest.TestCase):
