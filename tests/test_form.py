@@ -1,6 +1,7 @@
 """The interface as it is listed, and the outer form of the package's files."""
 
 import ast
+import builtins
 import pathlib
 import re
 import unittest
@@ -29,12 +30,38 @@ INTERFACE = {
         "comes_ahead": "house book row day one other",
     },
     "degrees": {"degrees": "house book row day who"},
+    "orders": {"order_of": "house book rule day last", "first_of": "house book rule day last"},
+    "firsts": {"right_first": "house book rule day last who thing"},
+    "firstmaking": {"first_paper": "house book rule day last"},
+    "waits": {"open_awaits": "house book day", "child_house": "house book day place"},
+    "reigns": {
+        "reigns": "house book rule until", "sitter_at": "house book rule day", "last_at": "house book rule day",
+        "regent_at": "house book rule day",
+    },
+    "moments": {"moments": "house book rule day news"},
+    "reignpaper": {"right_reigns": "house book rule until thing"},
+    "reignmaking": {"reign_paper": "house book rule until"},
+    "births": {"may_have": "house book row day who"},
+    "sures": {"right_sure": "house book rule day sits who thing"},
 }
 
 BARRED = (
     "type", "typing", "typing_extensions", "enum", "Enum", "IntEnum", "StrEnum", "Flag", "IntFlag", "Generic",
     "Protocol", "ABC", "ABCMeta", "namedtuple", "NamedTuple", "TypedDict", "TYPE_CHECKING", "abstractmethod",
 )
+
+BUILTINS = set((
+    "len range enumerate zip min max sum abs sorted reversed int str bool list tuple dict set isinstance ord repr any "
+    "all divmod ValueError"
+).split())
+
+METHODS = set("append clear copy count extend get index insert items join keys pop remove setdefault values".split())
+
+UNUSED = set((
+    "register mro elements open input law version_info with_traceback add_note attrgetter breakpoint builtins compile "
+    "copyright credits delattr dir eval exec exit gc getattr globals hasattr help id importlib license locals "
+    "methodcaller os quit setattr super type vars sys"
+).split())
 
 
 def files():
@@ -90,6 +117,18 @@ class Form(unittest.TestCase):
                     self.assertRegex(node.module, r"^thronewalk\.[a-z]+$", path)
                     self.assertEqual({alias.name for alias in node.names} - self.bound_in(node.module), set(), path)
 
+    def test_no_two_files_import_from_each_other(self):
+        needs = {
+            "thronewalk." + path.stem: {
+                node.module for node in ast.walk(tree_of(path)) if isinstance(node, ast.ImportFrom)}
+            for path in files()
+        }
+        while needs:
+            free = [module for module in needs if not needs[module] & set(needs)]
+            self.assertTrue(free, needs)
+            for module in free:
+                del needs[module]
+
     def bound_in(self, module):
         bound = set()
         for node in tree_of(PACKAGE / (module.split(".")[1] + ".py")).body:
@@ -98,6 +137,77 @@ class Form(unittest.TestCase):
             if isinstance(node, ast.Assign):
                 bound.add(node.targets[0].id)
         return bound
+
+
+class Names(unittest.TestCase):
+    def bound_names(self, tree):
+        """Each name that the file gives a meaning, but for imports."""
+        for node in ast.walk(tree):
+            if isinstance(node, (ast.FunctionDef, ast.ClassDef)):
+                yield node.name
+            elif isinstance(node, ast.arg):
+                yield node.arg
+            elif isinstance(node, ast.Name) and not isinstance(node.ctx, ast.Load):
+                yield node.id
+
+    def imports(self, tree):
+        return {alias.name for node in ast.walk(tree) if isinstance(node, ast.ImportFrom) for alias in node.names}
+
+    def test_plain_names(self):
+        for path in files():
+            tree = tree_of(path)
+            for name in self.bound_names(tree):
+                self.assertRegex(name, r"^[A-Za-z][A-Za-z0-9_]*$", path)
+                self.assertFalse(hasattr(builtins, name), (path, name))
+                self.assertNotIn(name, UNUSED, path)
+                self.assertNotIn(name, self.imports(tree), path)
+
+    def test_one_binding_for_each_name(self):
+        for path in files():
+            names = list(self.imports(tree_of(path)))
+            for node in tree_of(path).body:
+                if isinstance(node, (ast.FunctionDef, ast.ClassDef)):
+                    names.append(node.name)
+                if isinstance(node, ast.Assign):
+                    names.append(node.targets[0].id)
+            self.assertEqual(len(names), len(set(names)), path)
+
+    def test_known_builtins_and_methods_alone(self):
+        for path in files():
+            tree = tree_of(path)
+            known = BUILTINS | self.imports(tree) | set(self.bound_names(tree))
+            for node in ast.walk(tree):
+                if isinstance(node, ast.Name):
+                    self.assertIn(node.id, known, path)
+                if isinstance(node, ast.Attribute):
+                    self.assertIn(node.attr, METHODS, path)
+
+
+class Words(unittest.TestCase):
+    BARRED = (
+        ast.Import, ast.Global, ast.Nonlocal, ast.AsyncFunctionDef, ast.Await, ast.Try, ast.With, ast.Yield,
+        ast.YieldFrom, ast.Div, ast.Pow, ast.Starred, ast.NamedExpr, ast.AnnAssign, ast.JoinedStr, ast.Delete)
+
+    def test_nothing_that_needs_a_second_look(self):
+        for path in files():
+            for node in ast.walk(tree_of(path)):
+                self.assertNotIsInstance(node, self.BARRED, path)
+                if isinstance(node, ast.Compare):
+                    self.assertFalse(any(isinstance(sign, (ast.Is, ast.IsNot)) for sign in node.ops), path)
+                if isinstance(node, ast.Constant):
+                    self.assertIn(type(node.value), (int, str, bool, type(None)), path)
+                if isinstance(node, (ast.Set, ast.SetComp)):
+                    self.fail(path)
+
+    def test_sets_are_sorted_on_the_spot(self):
+        for path in files():
+            tree = tree_of(path)
+            sorted_sets = [
+                node.args[0] for node in ast.walk(tree)
+                if isinstance(node, ast.Call) and isinstance(node.func, ast.Name) and node.func.id in ("sorted", "len")]
+            for node in ast.walk(tree):
+                if isinstance(node, ast.Call) and isinstance(node.func, ast.Name) and node.func.id == "set":
+                    self.assertIn(node, sorted_sets, path)
 
 
 if __name__ == "__main__":

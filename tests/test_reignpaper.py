@@ -3,27 +3,13 @@
 import unittest
 
 from tests import slow_thrones
+from tests.by_hand import (
+    BARE_BOOK, BARE_HOUSE, BARE_PAPER, BARE_RULE, BOOK, CHILD_WAITS, DAUGHTER_SITS, FOUNDER_SITS, HOUSE, NOBODY, OF_3,
+    OF_SON, PAPER, RULE, SON_SITS)
 from tests.makers import LAST, ODD_THINGS, as_truths, changed, listed
 from thronewalk.news import check_book
 from thronewalk.reignpaper import right_reigns
 from thronewalk.rules import check_rule
-
-# A mother, the founder, and both their daughter and son.
-HOUSE = (
-    (0, -1, -1, 0, 1),
-    (10, -1, -1, 1, 1),
-    (30, 1, 0, 0, 1),
-    (40, 1, 0, 1, 1),
-)
-BOOK = (("awaits", 50, 0, 1), ("dies", 60, 1, -1), ("dies", 70, 3, -1))
-RULE = ((1, "first", 1, "lines"),)
-
-OF_SON = (("lines", (1, 3), (1,)),)
-FOUNDER_SITS = (10, 1, "sits", (("lines", (1,), ()),), ())
-SON_SITS = (60, 3, "sits", OF_SON, (OF_SON,))
-CHILD_WAITS = (70, -1, "waits", 0, (("lines", (1, 4), (1, 3)),))
-DAUGHTER_SITS = (350, 2, "sits", (("lines", (1, 2), (1, 3)),), ())
-PAPER = (FOUNDER_SITS, SON_SITS, CHILD_WAITS, DAUGHTER_SITS)
 
 
 class Looking(unittest.TestCase):
@@ -198,63 +184,50 @@ class Rows(Looking):
 
 
 class Nobody(Looking):
-    HOUSE = ((0, -1, -1, 0, 1), (10, -1, -1, 1, 1), (50, -1, 0, 1, 1), (80, 1, -1, 0, 1))
-    BOOK = (("awaits", 20, 0, -1), ("awaits", 60, 0, 1), ("dies", 10, 1, -1), ("dies", 85, 3, -1))
-    RULE = ((1, "alike", 0, "age"),)
-    DEAD = (("nobody", ((1, -1),)),)
-    OF_3 = (("age", ((1, -1), (3, 1))),)
-    DEAD_TWO = (("nobody", ((1, -1), (3, 1))),)
-
-    def rows(self):
-        none = (-1, "nobody", self.DEAD, ())
-        waits = (("age", ((1, -1), (3, 1))),)
-        with_child = (("age", ((1, -1), (3, 1), (4, 1))),)
-        return (
-            (10,) + none,
-            (20,) + none[:3] + ((self.DEAD,),),
-            (50,) + none,
-            (60, -1, "waits", 1, waits),
-            (80, 3, "sits", self.OF_3, (with_child,)),
-            (85, -1, "waits", 1, with_child),
-            (320, -1, "waits", 1, with_child),
-            (360, -1, "nobody", self.DEAD_TWO, ()),
-        )
+    def says_bare(self, rows, until):
+        return self.says(rows, until, BARE_BOOK, BARE_RULE, BARE_HOUSE)
 
     def test_a_row_for_each_day_while_nobody_sits(self):
-        rows = self.rows()
         for until, many in ((10, 1), (19, 1), (20, 2), (49, 2), (50, 3), (60, 4), (80, 5), (84, 5), (85, 6)):
-            self.assertTrue(self.says(rows[:many], until, self.BOOK, self.RULE, self.HOUSE))
+            self.assertTrue(self.says_bare(BARE_PAPER[:many], until))
         for until, many in ((319, 6), (320, 7), (359, 7), (360, 8), (LAST, 8)):
-            self.assertTrue(self.says(rows[:many], until, self.BOOK, self.RULE, self.HOUSE))
+            self.assertTrue(self.says_bare(BARE_PAPER[:many], until))
 
     def test_one_too_few(self):
-        rows = self.rows()
         for at in range(8):
-            self.assertFalse(self.says(rows[:at] + rows[at + 1:], 400, self.BOOK, self.RULE, self.HOUSE))
+            self.assertFalse(self.says_bare(BARE_PAPER[:at] + BARE_PAPER[at + 1:], 400))
 
     def test_others_of_nobody(self):
-        rows = self.rows()
-        for others in ((), (self.DEAD, self.DEAD), self.DEAD, None, [self.DEAD], (None,), (self.OF_3,)):
-            changed_rows = rows[:1] + ((20, -1, "nobody", self.DEAD, others),)
-            self.assertFalse(self.says(changed_rows, 30, self.BOOK, self.RULE, self.HOUSE))
+        for others in ((), (NOBODY, NOBODY), NOBODY, None, [NOBODY], (None,), (OF_3,)):
+            rows = BARE_PAPER[:1] + ((20, -1, "nobody", NOBODY, others),)
+            self.assertFalse(self.says_bare(rows, 30))
 
     def test_nobody_in_place_of_waits(self):
-        rows = self.rows()
-        for others in ((), (self.DEAD,), (self.DEAD_TWO,)):
-            changed_rows = rows[:3] + ((60, -1, "nobody", self.DEAD, others),)
-            self.assertFalse(self.says(changed_rows, 60, self.BOOK, self.RULE, self.HOUSE))
+        for others in ((), (NOBODY,), BARE_PAPER[7][3:4]):
+            rows = BARE_PAPER[:3] + ((60, -1, "nobody", NOBODY, others),)
+            self.assertFalse(self.says_bare(rows, 60))
 
     def test_sits_in_place_of_nobody(self):
         for who in (0, 1, 2):
-            for paper in (self.DEAD, (("age", ((1, -1),)),)):
-                rows = ((10, who, "sits", paper, ()),)
-                self.assertFalse(self.says(rows, 10, self.BOOK, self.RULE, self.HOUSE))
+            for paper in (NOBODY, (("age", ((1, -1),)),)):
+                self.assertFalse(self.says_bare(((10, who, "sits", paper, ()),), 10))
+
+    def test_each_word_in_place_of_another(self):
+        for at, right in enumerate(BARE_PAPER):
+            for word in ("sits", "nobody", "waits"):
+                rows = BARE_PAPER[:at] + (right[:2] + (word,) + right[3:],) + BARE_PAPER[at + 1:]
+                self.assertEqual(self.says_bare(rows, 400), word == right[2])
+
+    def test_nobody_is_no_folk(self):
+        for who in (-1, 0, 1, -2, None, False, True, "", ()):
+            for word in ("sits", "nobody"):
+                told = self.says_bare(((10, who, word, NOBODY, ()),), 10)
+                self.assertEqual(told, (who, word) == (-1, "nobody"))
 
     def test_folk_who_are_not_born_yet(self):
-        rows = self.rows()[:3]
         for who in (2, 3):
-            row = (60, who, "sits", self.OF_3, (self.OF_3,))
-            self.assertFalse(self.says(rows + (row,), 60, self.BOOK, self.RULE, self.HOUSE))
+            row = (60, who, "sits", OF_3, (OF_3,))
+            self.assertFalse(self.says_bare(BARE_PAPER[:3] + (row,), 60))
 
 
 class Others(Looking):

@@ -3,17 +3,23 @@
 import unittest
 
 from tests import slow
-from tests.makers import FAMILY, Dice, all_rows, ladder, some_cases, some_parent, some_thrones
+from tests.makers import FAMILY, Dice, all_rows, ladder, listed, some_cases, some_parent, some_thrones
+from thronewalk.births import may_have
 from thronewalk.degrees import degrees
 from thronewalk.firstmaking import first_paper
 from thronewalk.firsts import right_first
 from thronewalk.folk import born_by
+from thronewalk.moments import moments
 from thronewalk.news import book_up_to
 from thronewalk.orders import first_of, order_of
 from thronewalk.places import right_place
 from thronewalk.placing import comes_ahead, parting, place_of
 from thronewalk.reach import reach_of, right_reach, stands
+from thronewalk.reignmaking import reign_paper
+from thronewalk.reignpaper import right_reigns
+from thronewalk.reigns import last_at, regent_at, reigns, sitter_at
 from thronewalk.steps import is_line, lines_many, steps_of
+from thronewalk.sures import right_sure
 from thronewalk.waits import child_house, open_awaits
 from thronewalk.walks import least_line, walk
 
@@ -167,6 +173,36 @@ class AskedTwice(unittest.TestCase):
                     lambda: right_reach(house, (), row, 90, reach_of(house, (), row, 90)),
                 )
                 self.assertEqual([ask() for ask in asks], [ask() for ask in asks])
+
+    def test_thrones(self):
+        for house, book, rule, day in some_thrones(74, 60, 8):
+            before = repr((house, book, rule))
+            news = tuple(one for one in book if one[1] == day)
+            first, paper = first_of(house, book, rule, day, 0), first_paper(house, book, rule, day, 0)
+            asks = (
+                lambda: order_of(house, book, rule, day, 0), lambda: first_of(house, book, rule, day, 0),
+                lambda: first_paper(house, book, rule, day, 0), lambda: open_awaits(house, book, day),
+                lambda: right_first(house, book, rule, day, 0, first, paper),
+                lambda: [child_house(house, book, day, place) for place in open_awaits(house, book, day)],
+                lambda: reigns(house, book, rule, day), lambda: regent_at(house, book, rule, day),
+                lambda: sitter_at(house, book, rule, day), lambda: last_at(house, book, rule, day),
+                lambda: moments(house, book, rule, day, news), lambda: reign_paper(house, book, rule, day),
+                lambda: right_reigns(house, book, rule, day, reign_paper(house, book, rule, day)),
+                lambda: [may_have(house, book, rule[0], day, who) for who in range(born_by(house, day))],
+                lambda: right_sure(house, book, rule, day, 0, 1, paper),
+            )
+            self.assertEqual([ask() for ask in asks], [ask() for ask in reversed(asks)][::-1])
+            self.assertEqual(repr((house, book, rule)), before)
+
+    def test_what_is_looked_over_stays_as_it_was(self):
+        rule = ((0, "alike", 0, "lines"),)
+        papers = [listed(paper) for paper in (first_paper(FAMILY, (), rule, 90, 0), reign_paper(FAMILY, (), rule, 90))]
+        for thing in papers + [(papers[0],), (tuple(papers[0]),), (tuple(papers[1]),), {0: papers}]:
+            before = repr(thing)
+            self.assertFalse(right_first(FAMILY, (), rule, 90, 0, 0, thing))
+            self.assertFalse(right_sure(FAMILY, (), rule, 90, 2, 0, thing))
+            self.assertFalse(right_reigns(FAMILY, (), rule, 90, thing))
+            self.assertEqual(repr(thing), before)
 
 
 if __name__ == "__main__":

@@ -25,14 +25,16 @@ def right_reigns(house, book, rule, until, thing):
 
 
 def right_row(house, book, rule, day, last, row):
-    if not is_tuple_of(row, 5) or not is_number(row[0]) or row[0] != day or not is_number(row[1]):
+    if not is_tuple_of(row, 5) or not is_number(row[0]) or row[0] != day:
         return False
     who, word = row[1:3]
     if word == "waits":
         return who == -1 and right_waits(house, book, rule, day, last, row[3], row[4])
     if word == "nobody":
         return who == -1 and right_others(house, book, rule, day, last, who, row[3], row[4])
-    return word == "sits" and is_folk_of(house, who) and right_others(house, book, rule, day, last, who, row[3], row[4])
+    if word == "sits":
+        return is_folk_of(house, who) and right_others(house, book, rule, day, last, who, row[3], row[4])
+    return False
 
 
 def right_waits(house, book, rule, day, last, place, paper):
