@@ -43,6 +43,13 @@ INTERFACE = {
     "reignmaking": {"reign_paper": "house book rule until"},
     "births": {"may_have": "house book row day who"},
     "sures": {"right_sure": "house book rule day sits who thing"},
+    "heirs": {"heir_of": "house book rule day sits"},
+    "deaths": {
+        "to_seat": "order who", "to_part": "one other", "to_join": "one other", "right_join": "one other thing",
+    },
+    "sharing": {"at_rest": "orders wishes thing"},
+    "asking": {"by_thrones": "orders wishes turn", "by_folk": "orders wishes"},
+    "unions": {"heads_at": "house book rules day", "unions": "house book one other until"},
 }
 
 BARRED = (

@@ -9,6 +9,7 @@ from thronewalk.degrees import degrees
 from thronewalk.firstmaking import first_paper
 from thronewalk.firsts import right_first
 from thronewalk.folk import born_by
+from thronewalk.heirs import heir_of
 from thronewalk.moments import moments
 from thronewalk.news import book_up_to
 from thronewalk.orders import first_of, order_of
@@ -20,6 +21,7 @@ from thronewalk.reignpaper import right_reigns
 from thronewalk.reigns import last_at, regent_at, reigns, sitter_at
 from thronewalk.steps import is_line, lines_many, steps_of
 from thronewalk.sures import right_sure
+from thronewalk.unions import heads_at, unions
 from thronewalk.waits import child_house, open_awaits
 from thronewalk.walks import least_line, walk
 
@@ -190,6 +192,8 @@ class AskedTwice(unittest.TestCase):
                 lambda: right_reigns(house, book, rule, day, reign_paper(house, book, rule, day)),
                 lambda: [may_have(house, book, rule[0], day, who) for who in range(born_by(house, day))],
                 lambda: right_sure(house, book, rule, day, 0, 1, paper),
+                lambda: heir_of(house, book, rule, day, 0), lambda: heads_at(house, book, (rule, rule), day),
+                lambda: unions(house, book, rule, rule[:1], day),
             )
             self.assertEqual([ask() for ask in asks], [ask() for ask in reversed(asks)][::-1])
             self.assertEqual(repr((house, book, rule)), before)

@@ -1,6 +1,6 @@
-"""Who may yet have a child that counts."""
+"""Who may yet have a child that counts, and which births there may be."""
 
-from thronewalk.folk import is_man
+from thronewalk.folk import born_by, is_man
 from thronewalk.news import cuts_by, dead_by
 from thronewalk.steps import lines_many
 from thronewalk.waits import open_awaits
@@ -17,3 +17,19 @@ def parents_to_be(house, book, row, day, reached):
     fathers = [book[place][3] for place in open_awaits(house, book, day)]
     left = [who for who in reached if who not in cuts and (who not in dead or who in fathers)]
     return [who for who in left if row[1] != "only" or is_man(house, who)]
+
+
+def births_behind(house, book, day):
+    """All births that there may be on the day behind a day."""
+    dead = dead_by(book, day)
+    births = [birth_of_one(house, day + 1, who) for who in range(born_by(house, day)) if who not in dead]
+    for place in open_awaits(house, book, day):
+        word, told, mother, father = book[place]
+        births.append((day + 1, father, mother, 1, 1))
+    return births
+
+
+def birth_of_one(house, day, parent):
+    if is_man(house, parent):
+        return (day, parent, -1, 1, 1)
+    return (day, -1, parent, 1, 1)

@@ -6,14 +6,14 @@ from thronewalk.reach import reach_of
 
 
 def first_paper(house, book, rule, day, last):
-    return first_and_paper(house, book, rule, day, last)[1]
+    return first_and_paper(house, book, rule, day, last, -1)[1]
 
 
-def first_and_paper(house, book, rule, day, last):
-    """A tuple of the first of the order, -1 if nobody stands, and a first paper of it."""
+def first_and_paper(house, book, rule, day, last, aside):
+    """A tuple of the first of the order but aside (-1 for nobody), -1 if there is none, and a paper of it."""
     parts = ()
     for row in rule:
-        order = row_order(house, book, row, day, last)
+        order = [who for who in row_order(house, book, row, day, last) if who != aside]
         if order:
             return (order[0], parts + (first_part(house, book, row, day, order[0]),))
         parts += (("nobody", reach_of(house, book, row, day)),)

@@ -1,5 +1,6 @@
 """Making the paper of a place, and telling where two lines part."""
 
+from thronewalk.beginnings import folk_at, shared_many
 from thronewalk.errors import NoLine
 from thronewalk.walks import least_line, least_lines, walk
 
@@ -17,18 +18,6 @@ def parting(house, book, row, day, one, other):
     second = least_line(house, book, row, day, other)
     shared = shared_many(first, second)
     return (first[shared - 1], folk_at(first, shared), folk_at(second, shared))
-
-
-def shared_many(first, second):
-    """How many folk two lines have in common from the founder on."""
-    many = 0
-    while many < min(len(first), len(second)) and first[many] == second[many]:
-        many += 1
-    return many
-
-
-def folk_at(line, place):
-    return line[place] if place < len(line) else -1
 
 
 def comes_ahead(house, book, row, day, one, other):

@@ -23,10 +23,10 @@ def row_of(house, book, rule, day, last):
     others = []
     for place in open_awaits(house, book, day):
         awaited = child_house(house, book, day, place)
-        first, paper = first_and_paper(awaited, told, rule, day, last)
+        first, paper = first_and_paper(awaited, told, rule, day, last, -1)
         if first == len(awaited) - 1:
             return (day, -1, "waits", place, paper)
         others.append(paper)
-    who, paper = first_and_paper(house, book, rule, day, last)
+    who, paper = first_and_paper(house, book, rule, day, last, -1)
     word = "nobody" if who == -1 else "sits"
     return (day, who, word, paper, tuple(others))

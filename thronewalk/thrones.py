@@ -25,3 +25,17 @@ def sits_on(book, day, sits):
 def last_behind(last, sits):
     """Who is last once sits (-1 for nobody) has come to sit."""
     return last if sits == -1 else sits
+
+
+def days_of(pairs):
+    """The days of pairs (day, who), perhaps of several thrones, each once, from the first one on."""
+    return sorted(set([pair[0] for pair in pairs]))
+
+
+def sitter_by(pairs, day):
+    """Who sits on a day, -1 for nobody, by the pairs (day, who) of one throne."""
+    sits = -1
+    for begun, who in pairs:
+        if begun <= day:
+            sits = who
+    return sits
