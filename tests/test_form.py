@@ -50,6 +50,18 @@ INTERFACE = {
     "sharing": {"at_rest": "orders wishes thing"},
     "asking": {"by_thrones": "orders wishes turn", "by_folk": "orders wishes"},
     "unions": {"heads_at": "house book rules day", "unions": "house book one other until"},
+    "scrolls": {"check_scroll": "house thing", "joined": "one other", "book_of": "scroll"},
+    "late": {"changed_from": "house one other rule until"},
+    "texts": {"house_text": "house", "book_text": "book", "rule_text": "rule"},
+    "reading": {"read_house": "thing", "read_book": "house thing", "read_rule": "house thing"},
+}
+
+CLASSES = {
+    "holder": ("Holder", {
+        "__init__": "self house writer", "write": "self news", "strike": "self writer number", "hear": "self scroll",
+        "scroll": "self", "book": "self", "sitter_at": "self rule day", "reigns": "self rule until",
+    }),
+    "desk": ("Desk", {"__init__": "self house rule", "say": "self thing"}),
 }
 
 BARRED = (
@@ -62,7 +74,7 @@ BUILTINS = set((
     "all divmod ValueError"
 ).split())
 
-METHODS = set("append clear copy count extend get index insert items join keys pop remove setdefault values".split())
+METHODS = set("append clear copy count extend get index insert items join keys pop remove setdefault split values".split())
 
 UNUSED = set((
     "register mro elements open input law version_info with_traceback add_note attrgetter breakpoint builtins compile "
@@ -79,15 +91,32 @@ def tree_of(path):
     return ast.parse(path.read_text(encoding="utf-8"))
 
 
+def defined_in(node):
+    """The functions, or methods, that stand in a file, or a class, itself, with their arguments."""
+    return {
+        inner.name: " ".join(arg.arg for arg in inner.args.args)
+        for inner in node.body if isinstance(inner, ast.FunctionDef)
+    }
+
+
+def classes():
+    return [node for path in files() for node in tree_of(path).body if isinstance(node, ast.ClassDef)]
+
+
 class Interface(unittest.TestCase):
     def test_each_function_stands_in_its_file_with_its_arguments(self):
         for module, functions in INTERFACE.items():
-            defined = {
-                node.name: " ".join(arg.arg for arg in node.args.args)
-                for node in tree_of(PACKAGE / (module + ".py")).body if isinstance(node, ast.FunctionDef)
-            }
+            defined = defined_in(tree_of(PACKAGE / (module + ".py")))
             for name, arguments in functions.items():
                 self.assertEqual(defined.get(name), arguments, module + "." + name)
+
+    def test_each_class_has_its_methods_itself(self):
+        for module, (name, methods) in CLASSES.items():
+            found = [node for node in tree_of(PACKAGE / (module + ".py")).body if isinstance(node, ast.ClassDef)]
+            self.assertEqual([node.name for node in found], [name])
+            defined = defined_in(found[0])
+            for method, arguments in methods.items():
+                self.assertEqual(defined.get(method), arguments, name + "." + method)
 
 
 class Form(unittest.TestCase):
@@ -148,10 +177,12 @@ class Form(unittest.TestCase):
 
 class Names(unittest.TestCase):
     def bound_names(self, tree):
-        """Each name that the file gives a meaning, but for imports."""
+        """Each name that the file gives a meaning, but for imports, and for methods, which are read off objects."""
+        methods = [inner for node in tree.body if isinstance(node, ast.ClassDef) for inner in node.body]
         for node in ast.walk(tree):
             if isinstance(node, (ast.FunctionDef, ast.ClassDef)):
-                yield node.name
+                if node not in methods:
+                    yield node.name
             elif isinstance(node, ast.arg):
                 yield node.arg
             elif isinstance(node, ast.Name) and not isinstance(node.ctx, ast.Load):
@@ -179,7 +210,16 @@ class Names(unittest.TestCase):
                     names.append(node.targets[0].id)
             self.assertEqual(len(names), len(set(names)), path)
 
+    def attributes(self):
+        """Each attribute that some object is given."""
+        nodes = [node for path in files() for node in ast.walk(tree_of(path))]
+        return {node.attr for node in nodes if isinstance(node, ast.Attribute) and isinstance(node.ctx, ast.Store)}
+
+    def own_methods(self):
+        return {name for node in classes() for name in defined_in(node)}
+
     def test_known_builtins_and_methods_alone(self):
+        own = self.attributes() | self.own_methods()
         for path in files():
             tree = tree_of(path)
             known = BUILTINS | self.imports(tree) | set(self.bound_names(tree))
@@ -187,7 +227,27 @@ class Names(unittest.TestCase):
                 if isinstance(node, ast.Name):
                     self.assertIn(node.id, known, path)
                 if isinstance(node, ast.Attribute):
-                    self.assertIn(node.attr, METHODS, path)
+                    self.assertIn(node.attr, METHODS | own, path)
+                if isinstance(node, ast.Attribute) and node.attr in own:
+                    self.assertEqual(getattr(node.value, "id", None), "self", path)
+
+    def test_methods_have_plain_names(self):
+        for name in self.own_methods() - {"__init__"}:
+            self.assertRegex(name, r"^[A-Za-z][A-Za-z0-9_]*$")
+            self.assertFalse(hasattr(builtins, name), name)
+            self.assertNotIn(name, UNUSED)
+
+    def test_no_name_is_a_method_and_an_attribute(self):
+        self.assertEqual(self.attributes() & self.own_methods(), set())
+        barred = {name for kind in (str, int, list, dict, set, bytes, tuple) for name in dir(kind)}
+        self.assertEqual((self.attributes() | self.own_methods() - {"__init__"}) & barred, set())
+
+    def test_attributes_are_set_when_the_object_is_made(self):
+        for node in classes():
+            made = [inner for inner in node.body if isinstance(inner, ast.FunctionDef) and inner.name == "__init__"]
+            first = {one.attr for inner in made for one in ast.walk(inner) if isinstance(one, ast.Attribute)}
+            later = {one.attr for one in ast.walk(node) if isinstance(one, ast.Attribute) and isinstance(one.ctx, ast.Store)}
+            self.assertEqual(later, first, node.name)
 
 
 class Words(unittest.TestCase):

@@ -1,4 +1,9 @@
-"""Point [3], over the whole: (a), (b) of places, (c), (d), (e) of orders; and point [2] of what is handed in."""
+"""Point [3], over the whole: (a), (b) of places, (c), (d), (e) of orders; and point [2] of what is handed in.
+
+The rest of [3] is tested beside what it is about: (b) of first ones in test_firsts.py, (e) of reigns and (g) in
+test_reignmaking.py, (f) in test_moments.py, (h) in test_sures.py and test_heirs.py, (i) in test_deaths.py, (j) in
+test_asking.py, (k) in test_holder.py and test_late.py.
+"""
 
 import unittest
 
@@ -10,6 +15,7 @@ from thronewalk.firstmaking import first_paper
 from thronewalk.firsts import right_first
 from thronewalk.folk import born_by
 from thronewalk.heirs import heir_of
+from thronewalk.late import changed_from
 from thronewalk.moments import moments
 from thronewalk.news import book_up_to
 from thronewalk.orders import first_of, order_of
@@ -194,6 +200,7 @@ class AskedTwice(unittest.TestCase):
                 lambda: right_sure(house, book, rule, day, 0, 1, paper),
                 lambda: heir_of(house, book, rule, day, 0), lambda: heads_at(house, book, (rule, rule), day),
                 lambda: unions(house, book, rule, rule[:1], day),
+                lambda: changed_from(house, book, book[1:], rule, day),
             )
             self.assertEqual([ask() for ask in asks], [ask() for ask in reversed(asks)][::-1])
             self.assertEqual(repr((house, book, rule)), before)
